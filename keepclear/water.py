@@ -1,0 +1,35 @@
+"""A line of calls, answered one behind another."""
+
+from keepclear.boat_calls import answer_boat_call
+from keepclear.rule_calls import answer_rule_call
+from keepclear.state import Water
+
+LAST_RULE_CALL = 6
+# The calls that have a text, with its length before it.
+WITH_TEXT = (0, 5)
+# By the calls' numbers: how many whole numbers the others have.
+WHOLE_NUMBERS = (0, 0, 0, 0, 0, 0, 1, 4, 3, 5)
+
+
+def answer_of(water, call, numbers):
+    if call <= LAST_RULE_CALL:
+        return answer_rule_call(water, call, numbers)
+    return answer_boat_call(water, call, numbers)
+
+
+def answers(calls):
+    water = Water()
+    told = []
+    place = 0
+    while place < len(calls):
+        call = calls[place]
+        start = place + 1
+        count = WHOLE_NUMBERS[call]
+        if call in WITH_TEXT:
+            count = calls[start]
+            start += 1
+        place = start + count
+        answer = answer_of(water, call, calls[start:place])
+        told.append(len(answer))
+        told.extend(answer)
+    return told
