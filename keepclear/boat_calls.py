@@ -1,19 +1,13 @@
-"""The calls that change the wind, the mark and the boats. Each answers its list of numbers."""
+"""The calls that change or tell the wind, the mark, the boats and rooms. Each answers its list of numbers."""
 
-from keepclear.boats import boat_placed
-from keepclear.rooms import rooms_told
+from keepclear.boats import boat_moved, boat_placed
+from keepclear.geometry import mirrored, turned
+from keepclear.refusals import NO_REFUSAL, ONE_PLACE, OUT_OF_RANGE, is_boat_number, refusal_of_boat, refusal_of_pair
+from keepclear.rooms import rooms_exchanged, rooms_told
 
-MOST_BOATS = 8
 FURTHEST = 1000000
 WIDEST_ZONE = 1000000
 STRONGEST = 1000
-
-OUT_OF_RANGE = -1
-ONE_PLACE = -3
-
-
-def is_boat_number(number):
-    return 0 <= number < MOST_BOATS
 
 
 def is_place(place):
@@ -72,11 +66,79 @@ def answer_place(water, numbers):
     return [boat.port, boat.tacking]
 
 
+def answer_away(water, numbers):
+    number = numbers[0]
+    refusal = refusal_of_boat(water.boats, number)
+    if refusal != NO_REFUSAL:
+        return [refusal]
+    water.boats.pop(number)
+    tell_rooms(water)
+    return [0]
+
+
+def answer_boats(water, numbers):
+    answer = [len(water.boats)]
+    for number in sorted(water.boats):
+        boat = water.boats[number]
+        answer.append(number)
+        answer.extend(boat.bow)
+        answer.extend(boat.stern)
+        answer.append(boat.port)
+        answer.append(boat.tacking)
+    return answer
+
+
+def answer_rooms(water, numbers):
+    answer = [len(water.rooms)]
+    for pair in sorted(water.rooms):
+        holder = water.rooms[pair]
+        answer.append(holder)
+        answer.append(pair[1] if holder == pair[0] else pair[0])
+    return answer
+
+
+# Rooms aren't told anew: how boats lie and how near they are to the mark stays.
+def move_all(water, move, other_tack):
+    water.wind = move(water.wind)
+    water.mark = move(water.mark)
+    for number in list(water.boats):
+        water.boats[number] = boat_moved(water.boats[number], move, other_tack)
+
+
+def answer_mirror(water, numbers):
+    move_all(water, mirrored, 1)
+    return [0]
+
+
+def answer_turn(water, numbers):
+    move_all(water, turned, 0)
+    return [0]
+
+
+def answer_exchange(water, numbers):
+    one = numbers[0]
+    another = numbers[1]
+    refusal = refusal_of_pair(water.boats, one, another)
+    if refusal != NO_REFUSAL:
+        return [refusal]
+    boat = water.boats[one]
+    water.boats[one] = water.boats[another]
+    water.boats[another] = boat
+    water.rooms = rooms_exchanged(water.rooms, one, another)
+    return [0]
+
+
 # By the calls' numbers.
 ANSWERERS = {
     7: answer_wind,
     8: answer_mark,
     9: answer_place,
+    10: answer_away,
+    11: answer_boats,
+    14: answer_rooms,
+    17: answer_mirror,
+    18: answer_turn,
+    19: answer_exchange,
 }
 
 

@@ -42,3 +42,9 @@ def boat_placed(bow, stern, before, wind, closeness):
     if is_too_close(heading, wind, closeness) and goes_on_tacking(port, before):
         tacking = 1
     return Boat(bow, stern, port, tacking)
+
+
+# move tells for each place where it goes to; other_tack is 1 if the boat is on its other tack then, else 0.
+def boat_moved(boat, move, other_tack):
+    port = 1 - boat.port if other_tack == 1 else boat.port
+    return Boat(move(boat.bow), move(boat.stern), port, boat.tacking)

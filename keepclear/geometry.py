@@ -13,6 +13,14 @@ def cross_product(one, another):
     return one[0] * another[1] - one[1] * another[0]
 
 
+def mirrored(place):
+    return (-place[0], place[1])
+
+
+def turned(place):
+    return (-place[1], place[0])
+
+
 # The square of the least distance between a place and the straight line between two ends,
 # as a pair: upper number, lower number (above 0). The ends are unlike.
 def squared_distance(place, start, end):

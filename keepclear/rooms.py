@@ -38,3 +38,18 @@ def rooms_told(boats, rooms, mark, zone):
         else:
             told[pair] = new_holder(boats, links, distances, pair)
     return told
+
+
+def number_exchanged(number, one, another):
+    if number == one:
+        return another
+    return one if number == another else number
+
+
+# The same rooms where two boats have exchanged their numbers.
+def rooms_exchanged(rooms, one, another):
+    exchanged = {}
+    for pair in rooms:
+        numbers = sorted([number_exchanged(number, one, another) for number in pair])
+        exchanged[tuple(numbers)] = number_exchanged(rooms[pair], one, another)
+    return exchanged

@@ -1,11 +1,10 @@
 """The calls that ask for rules alone. Each answers its list of numbers."""
 
+from keepclear.refusals import OUT_OF_RANGE
 from keepclear.rulebook import Rulebook, first_unlike, situations_where, weights_of
 from keepclear.rules import read_rules, written
 from keepclear.situations import SITUATIONS, situation_of
 from keepclear.words import BOTH, NOBODY
-
-OUT_OF_RANGE = -1
 
 
 def answer_load(water, text):

@@ -24,6 +24,14 @@ def situation_of(number):
     return tuple(parts)
 
 
+def number_of(parts):
+    number = 0
+    for place, size in enumerate(PART_SIZES):
+        value = parts[place] - 1 if place == LIE else parts[place]
+        number = number * size + value
+    return number
+
+
 def from_other_side(parts):
     lie = LIE_OF_OTHER[parts[LIE]]
     return (parts[1], parts[0], parts[3], parts[2], lie, 1 - parts[5], parts[7], parts[6])

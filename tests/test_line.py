@@ -4,12 +4,17 @@ import unittest
 
 from keepclear.water import answers
 
-from tests.lines import DOUBLES, GAPS, SAILING, TEXT, WEIGHTS, alike, decide, load, mark, place, wind
+from tests.lines import (
+    BOATS, DOUBLES, GAPS, MIRROR, RING, ROOMS, SAILING, TEXT, TURN, WEIGHTS, alike, away, contact, decide, exchange, load,
+    mark, place, sit, who, wind,
+)
 
 CALLS = [
     load(SAILING), TEXT, GAPS, DOUBLES, WEIGHTS, alike("rule a when port"), decide(200), decide(-5), wind(3, 4, 2, 1),
     mark(7, 8, 90), place(2, (5, 5)), place(2, (-1, 6)), place(9, (1, 1)), place(1, (1, 1), (1, 1)),
-    load("rule a when\nx"), alike("#" * 3001),
+    load("rule a when\nx"), alike("#" * 3001), place(5, (9, 4)), BOATS, sit(2, 5), who(5, 2), ROOMS, RING,
+    contact(2, 5, (3, 4)), contact(2, 5, (0, 0), (1, 2000)), MIRROR, TURN, exchange(5, 2), exchange(5, 5), BOATS, ROOMS,
+    away(2), away(2), sit(2, 5), who(-1, 5), BOATS,
 ]
 
 
@@ -64,6 +69,18 @@ class Line(unittest.TestCase):
         calls = load(text) + joined([alike(text)] * 18) + [4] * 380
         self.assertLessEqual(len(calls), 31000)
         self.assertEqual(answers(calls)[:6], [1, 12, 1, 1, 1, 1])
+
+    def test_the_longest_lines_on_the_water(self):
+        boats = joined([place(number, (number + 1, number), (0, 0)) for number in range(8)])
+        self.assertEqual(answers(boats + [15] * 392)[24:], [1, 0] * 392)
+        every = load("rule all when") + mark(0, 0, 1000000)
+        self.assertEqual(answers(every + boats + [15] * 390)[28:], [3, 2, 0, 1] * 390)
+        self.assertEqual(len(answers(every + boats + [14] * 390)), 28 + 390 * 58)
+        self.assertEqual(len(answers(every + boats * 49 + [11] * 6)), 4 + 49 * 24 + 6 * 58)
+
+    def test_every_call_may_stand_first_and_last(self):
+        for call in CALLS:
+            self.assertEqual(answers(list(call))[0], len(answers(list(call))) - 1)
 
 
 if __name__ == "__main__":

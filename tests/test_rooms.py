@@ -1,44 +1,25 @@
-"""What place, mark and wind change for later calls: how boats lie, and their rooms."""
+"""How boats lie, and promise 14, rooms: which are there behind calls that place or take away boats or set the mark."""
 
 import unittest
 from fractions import Fraction
 
 from keepclear.geometry import squared_distance
-from keepclear.overlaps import lie_of, links_of
-from keepclear.state import Water
-from keepclear.water import answer_of
 
-from tests.lines import mark, place, wind
-
-
-def water_behind(*calls):
-    water = Water()
-    for call in calls:
-        answer_of(water, call[0], call[1:])
-    return water
+from tests.lines import (
+    BOATS, FAR, MIRROR, ROOMS, TURN, away, east, exchange, last, mark, place, sit, told, west, wind,
+)
 
 
 def rooms(*calls):
-    """Who has room of whom, in order."""
-    held = []
-    for pair, holder in sorted(water_behind(*calls).rooms.items()):
-        held.append((holder, pair[0] + pair[1] - holder))
+    """Who has room of whom, in the order that is told."""
+    answer = last(*calls, ROOMS)
+    held = list(zip(answer[1::2], answer[2::2]))
+    assert answer[0] == len(held) and len(answer) == 1 + 2 * len(held), answer
     return held
 
 
 def lie(one, another, *calls):
-    boats = water_behind(*calls).boats
-    return lie_of(boats, links_of(boats), one, another)
-
-
-def east(number, x, y=0, length=10):
-    """A boat that points to the east, on port tack in the wind from 0 1; x, y is its stern."""
-    return place(number, (x + length, y), (x, y))
-
-
-def west(number, x, y=0, length=10):
-    """A boat that points to the west, on starboard tack."""
-    return place(number, (x - length, y), (x, y))
+    return last(*calls, sit(one, another))[4]
 
 
 class Lies(unittest.TestCase):
@@ -169,7 +150,7 @@ class Rooms(unittest.TestCase):
     def test_wind_takes_boats_and_rooms_away(self):
         start = (mark(0, 0, 100), east(0, 0), east(1, 11), east(0, 50))
         self.assertEqual(rooms(*start, wind(0, 1)), [])
-        self.assertEqual(water_behind(*start, wind(0, 1)).boats, {})
+        self.assertEqual(last(*start, wind(0, 1), BOATS), [0])
         # The mark and its zone stay.
         self.assertEqual(rooms(*start, wind(0, 1), east(0, 50), east(1, 11)), [(0, 1)])
 
@@ -177,11 +158,98 @@ class Rooms(unittest.TestCase):
         start = (mark(0, 0, 100), east(0, 0), east(1, 11), east(0, 50))
         for call in (mark(0, 0, -1), mark(0, 0, 1000001), mark(1000001, 0, 5), mark(0, -1000001, 5), wind(0, 0),
                      place(0, (1, 1), (1, 1)), place(8, (1, 1)), place(1, (0, 1000001))):
-            water = water_behind(*start, call)
-            self.assertEqual(water.rooms, {(0, 1): 1})
-            self.assertEqual((water.mark, water.zone), ((0, 0), 100))
-            self.assertEqual((water.boats[0].bow, water.boats[0].stern), ((60, 0), (50, 0)))
-            self.assertEqual(sorted(water.boats), [0, 1])
+            self.assertEqual(
+                told(*start, call, BOATS, ROOMS)[-2:],
+                [[2, 0, 60, 0, 50, 0, 1, 0, 1, 21, 0, 11, 0, 1, 0], [1, 1, 0]],
+            )
+            # The mark and its zone are as they were: a boat at the zone's edge is in it, one further away isn't.
+            self.assertEqual(rooms(*start, call, east(2, 100, 5000), east(3, 100), away(0), away(1)), [(3, 2)])
+            self.assertEqual(rooms(*start, call, east(2, 101, 5000), east(3, 101), away(0), away(1)), [])
+
+    def test_order_is_by_the_pair_not_by_the_holder(self):
+        calls = (mark(0, 0, 100), east(7, 30), east(2, 15), east(5, 0))
+        self.assertEqual(last(*calls, ROOMS), [3, 2, 5, 7, 2, 7, 5])
+        self.assertEqual(rooms(mark(0, 0, 100), east(0, 0), east(1, 15), east(2, 30)), [(1, 0), (2, 0), (2, 1)])
+
+    def test_eight_boats(self):
+        row = [east(number, 20 * number) for number in range(8)]
+        ahead = [(more, fewer) for fewer in range(8) for more in range(fewer + 1, 8)]
+        self.assertEqual(rooms(mark(0, 0, FAR), *row), ahead)
+        self.assertEqual(rooms(*row, mark(0, 0, FAR)), ahead)
+
+    def test_no_boats_and_one(self):
+        self.assertEqual(last(ROOMS), [0])
+        self.assertEqual(last(mark(0, 0, 100), east(0, 0), ROOMS), [0])
+
+    def test_a_boat_that_goes_away_has_and_gives_no_room(self):
+        start = (mark(0, 0, 100), east(0, 0), east(1, 15), east(2, 30))
+        self.assertEqual(rooms(*start, away(0)), [(2, 1)])
+        self.assertEqual(rooms(*start, away(1)), [(2, 0)])
+        self.assertEqual(rooms(*start, away(2)), [(1, 0)])
+        self.assertEqual(rooms(*start, away(2), away(0)), [])
+
+    def test_a_boat_that_comes_back_has_no_room_from_before(self):
+        start = (mark(0, 0, 100), east(0, 0), east(1, 15))
+        self.assertEqual(rooms(*start, east(0, 50)), [(1, 0)])
+        self.assertEqual(rooms(*start, away(0), east(0, 50)), [(0, 1)])
+        self.assertEqual(rooms(*start, away(1), east(0, 50), east(1, 15)), [(0, 1)])
+
+    def test_rooms_are_kept_when_the_boat_that_links_goes_away(self):
+        linked = (east(0, 0), east(1, 15), east(2, 8, 5), mark(0, 0, 100))
+        self.assertEqual(rooms(*linked, away(2)), [(0, 1)])
+        # Told from the beginning the one ahead would have room.
+        self.assertEqual(rooms(*linked, away(2), mark(0, 0, 100)), [(1, 0)])
+
+    def test_rooms_kept_gained_and_lost_in_one_line(self):
+        calls = (
+            east(0, 0), east(1, 15), ROOMS, mark(0, 0, 20), ROOMS, east(0, 18), ROOMS, east(2, 5000), ROOMS,
+            east(1, 6000), ROOMS, east(0, 21), ROOMS, east(0, 20), ROOMS, away(1), ROOMS, mark(5000, 0, 1), ROOMS,
+            mark(0, 0, 0), ROOMS,
+        )
+        self.assertEqual(
+            [answer for call, answer in zip(calls, told(*calls)) if call == ROOMS],
+            [[0], [1, 1, 0], [1, 1, 0], [3, 1, 0, 2, 0, 2, 1], [2, 1, 0, 2, 0], [0], [2, 1, 0, 2, 0], [1, 2, 0],
+             [1, 2, 0], [0]],
+        )
+
+    def test_exchange_takes_rooms_along(self):
+        start = (mark(0, 0, 100), east(0, 0), east(1, 15), east(2, 30))
+        self.assertEqual(rooms(*start, exchange(0, 1)), [(0, 1), (2, 0), (2, 1)])
+        self.assertEqual(rooms(*start, exchange(1, 0)), [(0, 1), (2, 0), (2, 1)])
+        self.assertEqual(rooms(*start, exchange(0, 2)), [(0, 1), (0, 2), (1, 2)])
+        self.assertEqual(rooms(*start, exchange(2, 1)), [(1, 0), (2, 0), (1, 2)])
+        self.assertEqual(rooms(*start, exchange(0, 2), exchange(2, 0)), [(1, 0), (2, 0), (2, 1)])
+        self.assertEqual(rooms(*start, exchange(0, 2), exchange(0, 1)), [(1, 0), (0, 2), (1, 2)])
+
+    def test_exchange_of_boats_of_which_a_third_has_room(self):
+        start = (mark(0, 0, 100), east(3, 0), east(1, 15), east(6, 30))
+        self.assertEqual(rooms(*start), [(1, 3), (6, 1), (6, 3)])
+        self.assertEqual(rooms(*start, exchange(3, 6)), [(3, 1), (1, 6), (3, 6)])
+
+    def test_exchange_does_not_tell_rooms_anew(self):
+        # As near as the other one, so the lesser number has room; behind the exchange it is the greater one.
+        start = (mark(5, 0, 100), east(2, 0, 9), east(4, 0, -9))
+        self.assertEqual(rooms(*start, exchange(2, 4)), [(4, 2)])
+        self.assertEqual(rooms(*start, exchange(2, 4), east(7, 0, 9000), away(7)), [(4, 2)])
+        self.assertEqual(rooms(*start, exchange(2, 4), mark(5, 0, 100)), [(2, 4)])
+
+    def test_mirror_and_turn_leave_rooms(self):
+        start = (mark(30, 10, 100), east(0, 0), east(1, 15), east(2, 30), east(0, 60))
+        held = [(1, 0), (2, 0), (2, 1)]
+        self.assertEqual(rooms(*start), held)
+        for call in (MIRROR, TURN):
+            self.assertEqual(rooms(*start, call), held)
+            self.assertEqual(rooms(*start, call, place(7, (9000, 9000)), away(7)), held)
+
+    def test_the_mark_goes_along_with_mirror_and_turn(self):
+        # Boat 1 is in the zone just where the mark has gone to.
+        start = (mark(300, 100, 5), place(0, (-9000, 0), (-9010, 0)))
+        for call, spot in ((MIRROR, (-300, 100)), (TURN, (-100, 300))):
+            for step in ((5, 0), (0, 5), (3, 4)):
+                edge = (spot[0] + step[0], spot[1] + step[1])
+                over = (spot[0] + step[0] + 1, spot[1] + step[1] + 1)
+                self.assertEqual(len(rooms(*start, call, place(1, edge, (edge[0] + 50, edge[1] + 50)))), 1)
+                self.assertEqual(rooms(*start, call, place(1, over, (over[0] + 50, over[1] + 50))), [])
 
 
 if __name__ == "__main__":

@@ -4,6 +4,8 @@ import itertools
 import random
 import unittest
 
+from keepclear.situations import number_of, situation_of
+
 from tests.lines import DOUBLES, GAPS, SAILING, TEXT, WEIGHTS, alike, decide, last, load, told, written
 
 # All situations as the document orders them, written out part by part.
@@ -196,6 +198,13 @@ class ByHand(unittest.TestCase):
 
     def test_alike_with_as_many_bytes_as_may_be(self):
         self.assertEqual(last(alike("#" * 3000)), [1])
+
+
+class Numbers(unittest.TestCase):
+    def test_a_situation_and_its_number(self):
+        for number, parts in enumerate(SITUATIONS):
+            self.assertEqual(situation_of(number), parts)
+            self.assertEqual(number_of(parts), number)
 
 
 class EachWord(unittest.TestCase):

@@ -2,18 +2,9 @@
 
 import unittest
 
-from tests.lines import last, mark, place, told, wind
-
-FAR = 1000000
-ENDS = (2147483647, -2147483648)
-
-# With the wind that is there at the beginning, which comes from 0 1.
-PORT = (1, 0)
-STARBOARD = (-1, 0)
-INTO_WIND = (0, 1)
-BEFORE_WIND = (0, -1)
-CLOSE_PORT = (1, 2)
-CLOSE_STARBOARD = (-1, 2)
+from tests.lines import (
+    BEFORE_WIND, CLOSE_PORT, CLOSE_STARBOARD, ENDS, FAR, INTO_WIND, PORT, STARBOARD, last, mark, place, told, wind,
+)
 
 
 class Tack(unittest.TestCase):
